@@ -1,0 +1,1 @@
+"""Cutweave: snapshots of a running net."""

@@ -1,0 +1,32 @@
+"""The names and arguments of the interface, each defined in the file that lists it."""
+
+import importlib
+import inspect
+import unittest
+
+FUNCTIONS = {
+    "cutweave.nets": {"net_text": ["net"], "read_net": ["text"]},
+    "cutweave.worlds": {"start": ["net"], "owner": ["net", "deed"], "possible": ["net", "world"],
+                        "done": ["net", "world", "deed"]},
+}
+CLASSES = {
+    "cutweave.errors": {"BadValue": ["at"], "BadNet": ["at"], "BadStep": ["at"], "BadCut": ["at"], "BadClaim": ["at"],
+                        "BadPaper": ["at"], "BadLine": ["at"], "TooMany": ["word"], "NothingThere": ["name"]},
+    "cutweave.nets": {"Net": ["processes", "channels", "rules"]},
+}
+
+
+class Interface(unittest.TestCase):
+
+    def test_names_and_arguments(self):
+        for table, is_kind in ((FUNCTIONS, inspect.isfunction), (CLASSES, inspect.isclass)):
+            for module, names in table.items():
+                for name, arguments in names.items():
+                    found = getattr(importlib.import_module(module), name)
+                    self.assertTrue(is_kind(found), name)
+                    self.assertEqual(found.__module__, module, name)
+                    self.assertEqual(list(inspect.signature(found).parameters), arguments, name)
+
+
+if __name__ == "__main__":
+    unittest.main()

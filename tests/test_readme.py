@@ -1,0 +1,19 @@
+"""The examples of README.md."""
+
+import doctest
+import pathlib
+import unittest
+
+README = pathlib.Path(__file__).resolve().parent.parent / "README.md"
+
+
+class Readme(unittest.TestCase):
+
+    def test_examples(self):
+        told = doctest.testfile(str(README), module_relative=False, encoding="utf-8")
+        self.assertGreater(told.attempted, 10)
+        self.assertEqual(told.failed, 0)
+
+
+if __name__ == "__main__":
+    unittest.main()
