@@ -36,6 +36,22 @@ def act_word(net, rule):
     return net.rules[rule][2][0] if is_below(rule, len(net.rules)) else None
 
 
+def message_gone(net, deed):
+    """The message (channel, k) that the deed of the net takes or loses, None if it does neither."""
+    if deed[0] == "act":
+        return None
+    channel = deed[1] if deed[0] == "lose" else net.rules[deed[1]][2][1]
+    return channel, deed[2]
+
+
+def sends_on(net, deed):
+    """The channel on which the deed of the net sends, None if it does not send."""
+    if deed[0] == "lose":
+        return None
+    act = net.rules[deed[1]][2]
+    return act[1] if act[0] == "send" else None
+
+
 def possible(net, world):
     """All deeds that can be done in the world: those of rules, then losses."""
     deeds = []

@@ -1,5 +1,8 @@
 """Nets that several tests use, and values that are wrong nearly everywhere."""
 
+import reprlib
+import unittest
+
 from cutweave.nets import Net
 
 # p sends 5 and 6 on each of four channels of unlike kinds, q takes them.
@@ -42,11 +45,13 @@ def nested(depth, inner=()):
     return value
 
 
+DEEP = nested(100000)
+
 ODD_VALUES = (
     None, "", "a", "order", "do", "process p 1\n", 0, 1, -1, 7, 10 ** 400, -10 ** 400, True, False,
     (), [], (None,), ("",), (0,), ((),), ([],), (0, 0), ("a", "b"), (None, None), ("a", 0), ("a", None),
     (0, 0, 0), (0, 0, 0, 0), (None, None, None, None), ((0, 0), (0, 0)), [[0, 0, ["do"], 0, 0]],
-    nested(100000), nested(100000, "do"), list(nested(100000, 1)),
+    DEEP, nested(100000, "do"), list(nested(100000, 1)),
 )
 
 
@@ -62,3 +67,14 @@ def is_tuple_throughout(value):
     if isinstance(value, tuple):
         return all(is_tuple_throughout(part) for part in value)
     return isinstance(value, (int, str)) and not isinstance(value, bool)
+
+
+class RaisesCase(unittest.TestCase):
+    """Tests that ask for an error and what it tells."""
+
+    def assert_raises(self, kind, told, function, *arguments, **named):
+        """The call raises just this kind of error, which keeps what is told."""
+        with self.assertRaises(kind, msg=reprlib.repr((function.__name__, arguments, named))) as caught:
+            function(*arguments, **named)
+        self.assertIs(type(caught.exception), kind)
+        self.assertEqual(list(vars(caught.exception).values()), [told])

@@ -8,6 +8,12 @@ FUNCTIONS = {
     "cutweave.nets": {"net_text": ["net"], "read_net": ["text"]},
     "cutweave.worlds": {"start": ["net"], "owner": ["net", "deed"], "possible": ["net", "world"],
                         "done": ["net", "world", "deed"]},
+    "cutweave.runs": {"played": ["net", "deeds"]},
+    "cutweave.histories": {"history": ["net", "deeds"], "is_history": ["net", "told"],
+                           "same_history": ["net", "deeds", "others"], "least_run": ["net", "told"]},
+    "cutweave.clocks": {"clocks": ["net", "told"], "ahead": ["net", "told", "one", "other"]},
+    "cutweave.cuts": {"is_cut": ["net", "told", "cut"], "world_at": ["net", "told", "cut"],
+                      "run_through": ["net", "told", "cut"]},
 }
 CLASSES = {
     "cutweave.errors": {"BadValue": ["at"], "BadNet": ["at"], "BadStep": ["at"], "BadCut": ["at"], "BadClaim": ["at"],
