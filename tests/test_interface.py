@@ -14,6 +14,14 @@ FUNCTIONS = {
     "cutweave.clocks": {"clocks": ["net", "told"], "ahead": ["net", "told", "one", "other"]},
     "cutweave.cuts": {"is_cut": ["net", "told", "cut"], "world_at": ["net", "told", "cut"],
                       "run_through": ["net", "told", "cut"]},
+    "cutweave.lattice": {"met": ["one", "other"], "joined": ["one", "other"], "least_over": ["net", "told", "bound"],
+                         "greatest_within": ["net", "told", "bound"], "steps_up": ["net", "told", "cut"],
+                         "steps_down": ["net", "told", "cut"], "all_cuts": ["net", "told"], "count_cuts": ["net", "told"],
+                         "level": ["net", "told", "many"], "primes": ["net", "told"], "parts": ["net", "told", "cut"],
+                         "chain_count": ["net", "told"]},
+    "cutweave.markers": {"marked": ["net", "happenings"]},
+    "cutweave.colours": {"coloured": ["net", "happenings"]},
+    "cutweave.claims": {"claim_text": ["net", "claim"], "read_claim": ["net", "text"], "holds": ["net", "claim", "world"]},
 }
 CLASSES = {
     "cutweave.errors": {"BadValue": ["at"], "BadNet": ["at"], "BadStep": ["at"], "BadCut": ["at"], "BadClaim": ["at"],
