@@ -1,7 +1,8 @@
 """Claims about worlds, and their texts."""
 
 from cutweave.errors import BadClaim
-from cutweave.nets import DIGITS, place
+from cutweave.nets import place
+from cutweave.words import is_numeral
 
 MOST_DEPTH = 16
 JOINTS = ("and", "or")
@@ -80,9 +81,7 @@ class Reader:
     def number(self, most):
         """The number that the next word tells, of at most so many digits and without noughts ahead."""
         word = self.next_word()
-        if not 1 <= len(word) <= most or not all([digit in DIGITS for digit in word]):
-            raise BadClaim(0)
-        if len(word) > 1 and word[0] == "0":
+        if len(word) > most or not is_numeral(word):
             raise BadClaim(0)
         return int(word)
 

@@ -12,6 +12,7 @@ import test_interface
 import test_markers
 import trials
 from cutweave.histories import history
+from cutweave.lattice import all_cuts
 from cutweave.worlds import done
 
 FOUR = samples.FOUR
@@ -24,6 +25,11 @@ CLAIM = ("not", ("and", ("state", 0, 1), ("or", ("count", 1, "<", 5), ("tokens",
 TEXT = "not (state p = 1 and (count d < 5 or tokens f 6 > 0))"
 DEEP_TEXT = "(" * 15 + "state p = 1" + " or state p = 1)" * 15
 BEGINS = (("begin", 0, 0), ("begin", 1, 2))
+# What holds in no world, and in all.
+NOWHERE = ("state", 0, 9)
+EVERYWHERE = ("not", NOWHERE)
+PAPER = "none\n" + "".join(f"cut {one} {other}\n" for one, other in sorted(all_cuts(FOUR, FEW)))
+WEIGHTS = (((1, 2), (3, 4, 5)), tuple(range(10)))
 
 # For each function of the interface whose arguments are tuples throughout, beside nets, some arguments.
 CALLS = {
@@ -40,6 +46,12 @@ CALLS = {
                 "chain_count": [(FEW,)]},
     "colours": {"coloured": [(BEGINS + DEEDS,)]},
     "claims": {"claim_text": [(CLAIM,)], "read_claim": [(TEXT,), (DEEP_TEXT,)], "holds": [(CLAIM, WORLD)]},
+    "ways": {"possibly": [(FEW, CLAIM)], "definitely": [(FEW, CLAIM)], "avoiding": [(FEW, CLAIM), (FEW, NOWHERE)]},
+    "papers": {"some_paper": [(FEW, CLAIM)], "none_paper": [(FEW, NOWHERE)], "avoid_paper": [(FEW, NOWHERE)],
+               "always_paper": [(FEW, EVERYWHERE)]},
+    "checking": {"paper_holds": [(FEW, NOWHERE, PAPER), (FEW, EVERYWHERE, "always\n")]},
+    "stable": {"still": [(WORLD,)], "ended": [(WORLD,)], "amount": [(WEIGHTS, WORLD)], "keeps": [(WEIGHTS,)],
+               "lost_amount": [(TOLD, WHOLE, WEIGHTS)]},
 }
 WITHOUT_A_NET = ("met", "joined")
 

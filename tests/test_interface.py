@@ -22,6 +22,13 @@ FUNCTIONS = {
     "cutweave.markers": {"marked": ["net", "happenings"]},
     "cutweave.colours": {"coloured": ["net", "happenings"]},
     "cutweave.claims": {"claim_text": ["net", "claim"], "read_claim": ["net", "text"], "holds": ["net", "claim", "world"]},
+    "cutweave.ways": {"possibly": ["net", "told", "claim"], "definitely": ["net", "told", "claim"],
+                      "avoiding": ["net", "told", "claim"]},
+    "cutweave.papers": {"some_paper": ["net", "told", "claim"], "none_paper": ["net", "told", "claim"],
+                        "avoid_paper": ["net", "told", "claim"], "always_paper": ["net", "told", "claim"]},
+    "cutweave.checking": {"paper_holds": ["net", "told", "claim", "paper"]},
+    "cutweave.stable": {"still": ["net", "world"], "ended": ["net", "world"], "amount": ["net", "weights", "world"],
+                        "keeps": ["net", "weights"], "lost_amount": ["net", "told", "cut", "weights"]},
 }
 CLASSES = {
     "cutweave.errors": {"BadValue": ["at"], "BadNet": ["at"], "BadStep": ["at"], "BadCut": ["at"], "BadClaim": ["at"],

@@ -1,6 +1,7 @@
 """What the tests compare with: everything by trial, with the worlds alone."""
 
 import itertools
+import random
 
 from cutweave.nets import Net
 from cutweave.worlds import done, owner, possible, start
@@ -127,3 +128,47 @@ def exchanged(net, run):
             last = (owner(net, one), len(told[owner(net, one)]) - 1)
             if send_events(net, told).get(message(net, other)) != last:
                 yield (*run[:at], other, one, *run[at + 2:])
+
+
+def random_histories(nets, most, seeds):
+    """For each of so many seeds, for each net: the net, and the history of a run of at most so many deeds."""
+    for seed in range(seeds):
+        for net in nets:
+            yield net, split(net, random_run(net, random.Random(seed), most))
+
+
+def owners(net, run):
+    return [owner(net, deed) for deed in run]
+
+
+def facts(world):
+    """Claims that hold in the world, each of one process or channel."""
+    states, _, present = world
+    return ([("state", process, state) for process, state in enumerate(states)]
+            + [("count", channel, "=", len(row)) for channel, row in enumerate(present)]
+            + [("tokens", channel, row[0][1], ">", 0) for channel, row in enumerate(present) if row])
+
+
+def near_claim(net, told, chance):
+    """A claim that holds at some consistent cut of the history, and at few others."""
+    claim = None
+    for _ in range(chance.choice((1, 1, 2, 3))):
+        run = some_run(net, told, chance)
+        known = facts(world_behind(net, run[:chance.randrange(len(run) + 1)]))
+        part = known[0]
+        for fact in chance.sample(known, min(len(known), chance.choice((1, 2, 2, 3, 4)))):
+            part = ("and", part, fact) if chance.random() < 0.9 else fact
+        claim = part if claim is None else ("or", claim, part)
+    return claim
+
+
+def some_run(net, told, chance):
+    """Some run with this history, as chance has it."""
+    run, counts, world = [], [0] * len(told), start(net)
+    while len(run) < sum(map(len, told)):
+        process = chance.choice([at for at, row in enumerate(told) if counts[at] < len(row)
+                                 and row[counts[at]] in possible(net, world)])
+        run.append(told[process][counts[process]])
+        counts[process] += 1
+        world = done(net, world, run[-1])
+    return tuple(run)
