@@ -9,11 +9,16 @@ MOST_DEEDS = 60
 
 def played(net, deeds):
     """The worlds ahead of each deed and behind the last one."""
+    return worlds_on(net, start(net), 0, deeds)
+
+
+def worlds_on(net, world, many, deeds):
+    """The world, ahead of which so many deeds were done, and those behind each of these deeds."""
     if not is_sequence(deeds):
         raise BadStep(0)
-    worlds = [start(net)]
+    worlds = [world]
     for at, deed in enumerate(deeds):
-        if at == MOST_DEEDS or not can_be_done(net, worlds[-1], deed):
+        if many + at == MOST_DEEDS or not can_be_done(net, worlds[-1], deed):
             raise BadStep(at)
         worlds.append(done(net, worlds[-1], deed))
     return tuple(worlds)

@@ -30,6 +30,7 @@ NOWHERE = ("state", 0, 9)
 EVERYWHERE = ("not", NOWHERE)
 PAPER = "none\n" + "".join(f"cut {one} {other}\n" for one, other in sorted(all_cuts(FOUR, FEW)))
 WEIGHTS = (((1, 2), (3, 4, 5)), tuple(range(10)))
+KEPT = tuple((0, 3, len(row)) for row in FEW)
 
 # For each function of the interface whose arguments are tuples throughout, beside nets, some arguments.
 CALLS = {
@@ -52,6 +53,11 @@ CALLS = {
     "checking": {"paper_holds": [(FEW, NOWHERE, PAPER), (FEW, EVERYWHERE, "always\n")]},
     "stable": {"still": [(WORLD,)], "ended": [(WORLD,)], "amount": [(WEIGHTS, WORLD)], "keeps": [(WEIGHTS,)],
                "lost_amount": [(TOLD, WHOLE, WEIGHTS)]},
+    "rollback": {"line": [(FEW, KEPT, (1, 0)), (FEW, ((0,), (0,)), (0,))], "domino": [(FEW, KEPT, (1,)), (FEW, ((0,), (0, 2)), (0,))],
+                 "logged_line": [(FEW, ((0,), (0, 2)), (2, 2), (0,))]},
+    "keeping": {"local_state": [(TOLD, 1, 3)], "replayed": [(1, 0, TOLD[1])], "resent": [(TOLD, WHOLE)],
+                "resumed": [(FEW, (0, 0), DEEDS[:25])]},
+    "garbage": {"floor": [(FEW, KEPT)], "droppable": [(FEW, KEPT)], "open_messages": [(FEW, ((0,), (0, 2)))]},
 }
 WITHOUT_A_NET = ("met", "joined")
 
@@ -83,7 +89,7 @@ class Calls(unittest.TestCase):
     def test_the_table_has_all_functions(self):
         told = {(function.__module__, function.__name__) for function, _ in all_calls()}
         listed_ones = {(module, name) for module, names in test_interface.FUNCTIONS.items() for name in names}
-        self.assertEqual(listed_ones - told, {("cutweave.nets", "read_net")})
+        self.assertEqual(listed_ones - told, {("cutweave.nets", "read_net"), ("cutweave.desk", "replayed_desk")})
 
     def test_by_position_and_by_name(self):
         for function, arguments in all_calls():

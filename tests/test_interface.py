@@ -29,12 +29,21 @@ FUNCTIONS = {
     "cutweave.checking": {"paper_holds": ["net", "told", "claim", "paper"]},
     "cutweave.stable": {"still": ["net", "world"], "ended": ["net", "world"], "amount": ["net", "weights", "world"],
                         "keeps": ["net", "weights"], "lost_amount": ["net", "told", "cut", "weights"]},
+    "cutweave.rollback": {"line": ["net", "told", "checkpoints", "failed"], "domino": ["net", "told", "checkpoints", "failed"],
+                          "logged_line": ["net", "told", "checkpoints", "logs", "failed"]},
+    "cutweave.keeping": {"local_state": ["net", "told", "process", "many"], "replayed": ["net", "process", "state", "deeds"],
+                         "resent": ["net", "told", "cut"], "resumed": ["net", "told", "cut", "deeds"]},
+    "cutweave.garbage": {"floor": ["net", "told", "checkpoints"], "droppable": ["net", "told", "checkpoints"],
+                         "open_messages": ["net", "told", "checkpoints"]},
+    "cutweave.desk": {"replayed_desk": ["net", "log"]},
 }
 CLASSES = {
     "cutweave.errors": {"BadValue": ["at"], "BadNet": ["at"], "BadStep": ["at"], "BadCut": ["at"], "BadClaim": ["at"],
                         "BadPaper": ["at"], "BadLine": ["at"], "TooMany": ["word"], "NothingThere": ["name"]},
     "cutweave.nets": {"Net": ["processes", "channels", "rules"]},
+    "cutweave.desk": {"Desk": ["net"]},
 }
+METHODS = {"Desk": {"tell": ["self", "line"], "log": ["self"]}}
 
 
 class Interface(unittest.TestCase):
@@ -47,6 +56,8 @@ class Interface(unittest.TestCase):
                     self.assertTrue(is_kind(found), name)
                     self.assertEqual(found.__module__, module, name)
                     self.assertEqual(list(inspect.signature(found).parameters), arguments, name)
+                    for method, needs in METHODS.get(name, {}).items():
+                        self.assertEqual(list(inspect.signature(vars(found)[method]).parameters), needs, method)
 
 
 if __name__ == "__main__":

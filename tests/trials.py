@@ -172,3 +172,49 @@ def some_run(net, told, chance):
         counts[process] += 1
         world = done(net, world, run[-1])
     return tuple(run)
+
+
+def random_checkpoints(told, chance):
+    """For each process 0, and some more of its numbers."""
+    return tuple(tuple(sorted({0, *chance.sample(range(len(row) + 1), chance.randrange(min(4, len(row) + 1) + 1) if row else 0)}))
+                 for row in told)
+
+
+def random_failed(told, chance):
+    """Some processes, in any sequence."""
+    return tuple(chance.sample(range(len(told)), chance.randrange(len(told) + 1)))
+
+
+def greatest(cuts):
+    """The one of the cuts that is nowhere less than any other one."""
+    top = tuple(map(max, zip(*cuts)))
+    assert top in cuts
+    return top
+
+
+def gone_events(net, told):
+    """For each message that is taken or lost the event by which it goes."""
+    return {message(net, deed): (process, at) for process, row in enumerate(told) for at, deed in enumerate(row)
+            if message(net, deed) is not None}
+
+
+def tokens_of(net, told):
+    """For each message that is sent its token."""
+    return {name: net.rules[told[process][at][1]][2][2] for name, (process, at) in send_events(net, told).items()}
+
+
+def random_net(chance, kinds=("order", "loose", "order lossy", "loose lossy"), keeps=None):
+    """A net as chance has it; keeps tells, if given, of a rule whether it may be in it."""
+    processes = tuple((name, chance.randrange(1, 4)) for name in ("p", "q", "r", "s", "t")[:chance.randrange(2, 5)])
+    pairs = [pair for pair in itertools.permutations(range(len(processes)), 2)]
+    channels = tuple((name, *chance.choice(pairs), chance.choice(kinds)) for name in ("c", "d", "e", "f")[:chance.randrange(1, 5)])
+    rules = []
+    for _ in range(300):
+        channel = chance.randrange(len(channels))
+        act = chance.choice((("send", channel, chance.randrange(3)), ("take", channel, chance.randrange(3)), ("do",)))
+        process = {"send": channels[channel][1], "take": channels[channel][2]}.get(act[0], chance.randrange(len(processes)))
+        state, then = chance.randrange(processes[process][1]), chance.randrange(processes[process][1])
+        rule = (process, state, act, then)
+        if len(rules) < 16 and (keeps is None or keeps(rule)):
+            rules.append(rule)
+    return Net(processes, channels, tuple(rules))
