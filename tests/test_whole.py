@@ -25,6 +25,7 @@ from cutweave.nets import net_text, read_net
 from cutweave.rollback import domino, line, logged_line
 from cutweave.runs import played
 from cutweave.stable import amount, ended, keeps, lost_amount, still
+from cutweave.tales import Tale
 from cutweave.ways import avoiding, definitely, possibly
 
 EXAMPLE = r"""
@@ -92,6 +93,14 @@ class Whole(samples.RaisesCase):
                     self.assertEqual(local_state(net, told, process, number), world_at(net, told, cut)[0][process])
                     states = replayed(net, process, local_state(net, told, process, number), told[process][number:])
                     self.assertEqual(states[-1], world_at(net, told, tuple(map(len, told)))[0][process])
+
+    def test_worlds_without_a_run(self):
+        # What claims are asked of is the world that the deeds in the cut lead to, made without doing them.
+        for chance, net, run in drawn(40, 12):
+            told = history(net, run)
+            tale = Tale(net, told)
+            for cut in all_cuts(net, told)[::3]:
+                self.assertEqual(tale.world_behind(cut), world_at(net, told, cut))
 
     def test_clocks_and_the_lattice(self):
         for chance, net, run in drawn(40, 9):
